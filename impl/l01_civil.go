@@ -64,13 +64,13 @@ const (
 
 // Lengths of texts.
 const (
-	maxNameBytes     = 20
-	maxDayDigits     = 2
-	maxHourDigits    = 3
-	weekdayNameBytes = 3
-	sixtiethsBytes   = len(":MM")
-	dateTextBytes    = len("YYYY-MM-DD")
-	timeTextBytes    = len("YYYY-MM-DD HH:MM:SS")
+	maxNameBytes   = 20
+	maxDayDigits   = 2
+	maxHourDigits  = 3
+	shortBytes     = 3
+	sixtiethsBytes = len(":MM")
+	dateTextBytes  = len("YYYY-MM-DD")
+	timeTextBytes  = len("YYYY-MM-DD HH:MM:SS")
 )
 
 // What is told where there is no day, or no weekday: neither is one's number.
@@ -79,7 +79,7 @@ const (
 	noWeekday = -1
 )
 
-// weekdayNames holds three bytes a weekday, from Sunday on.
+// weekdayNames holds shortBytes a weekday, from Sunday on.
 const weekdayNames = "SunMonTueWedThuFriSat"
 
 // monthLengths tells the months of a year that is no leap year.
@@ -224,7 +224,13 @@ func DayOn(year int64, month int64, on string) int64 {
 	if len(on) > MaxBytes {
 		return 0
 	}
-	if MonthDays(year, month) == 0 {
+	return dayText{year: year, month: month, on: on}.told()
+}
+
+// told is DayOn of a text of any length: one that is a field is not refused for
+// its size.
+func (d dayText) told() int64 {
+	if MonthDays(d.year, d.month) == 0 {
 		return noDay
 	}
 	forms := [...]func(dayText) int64{
@@ -233,9 +239,8 @@ func DayOn(year int64, month int64, on string) int64 {
 		dayText.firstFrom,
 		dayText.lastUpTo,
 	}
-	asked := dayText{year: year, month: month, on: on}
 	for _, form := range forms {
-		if days := form(asked); days != noDay {
+		if days := form(d); days != noDay {
 			return days
 		}
 	}
@@ -286,13 +291,25 @@ func (d dayText) numbered(digits string) int64 {
 
 // weekdayNamed is the weekday of that name, or noWeekday.
 func weekdayNamed(name string) int64 {
-	for i := 0; i < weekDays; i++ {
-		at := i * weekdayNameBytes
-		if weekdayNames[at:at+weekdayNameBytes] == name {
-			return int64(i)
+	place, found := shortPlace(weekdayNames, name)
+	if !found {
+		return noWeekday
+	}
+	return place
+}
+
+// shortPlace finds a name among names of shortBytes each.
+func shortPlace(names string, name string) (int64, bool) {
+	for place := range int64(len(names) / shortBytes) {
+		if shortName(names, place) == name {
+			return place, true
 		}
 	}
-	return noWeekday
+	return 0, false
+}
+
+func shortName(names string, place int64) string {
+	return names[place*shortBytes : (place+1)*shortBytes]
 }
 
 // weekdayFrom takes noWeekday and noDay, too, and answers noDay of them. What
@@ -334,9 +351,16 @@ func TimeText(secs int64) string {
 	if secs < MinTime || secs > MaxTime {
 		return ""
 	}
+	days, clock := dayAndClock(secs)
+	return dateText(DateOf(days)) + " " + clockText(clock)
+}
+
+// dayAndClock parts a wall time into its day's number and the seconds of that
+// day.
+func dayAndClock(wall int64) (int64, int64) {
 	// From MinTime on nothing is below 0, so that division rounds down.
-	since := secs - MinTime
-	return dateText(DateOf(minDay+since/daySeconds)) + " " + clockText(since%daySeconds)
+	since := wall - MinTime
+	return minDay + since/daySeconds, since % daySeconds
 }
 
 func dateText(d Date) string {
