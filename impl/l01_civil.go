@@ -348,11 +348,16 @@ func digitsRead(text string) (int64, bool) {
 
 // TimeText: see chapter 2.
 func TimeText(secs int64) string {
-	if secs < MinTime || secs > MaxTime {
+	if !isTime(secs) {
 		return ""
 	}
 	days, clock := dayAndClock(secs)
 	return dateText(DateOf(days)) + " " + clockText(clock)
+}
+
+// isTime takes what may be an instant or a wall time.
+func isTime(secs int64) bool {
+	return secs >= MinTime && secs <= MaxTime
 }
 
 // dayAndClock parts a wall time into its day's number and the seconds of that

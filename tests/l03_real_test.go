@@ -38,8 +38,9 @@ func isRealClock(t *testing.T, r impl.Release, name string, place string, from s
 	}
 }
 
-func TestRealClocks(t *testing.T) {
-	r := readRelease(t,
+// realRelease has rules of clocks that there are.
+func realRelease(t *testing.T) impl.Release {
+	return readRelease(t,
 		"Rule EU 1981 max - Mar lastSun 1:00u 1:00 S", "Rule EU 1981 1995 - Sep lastSun 1:00u 0 -", "Rule EU 1996 max - Oct lastSun 1:00u 0 -",
 		"Rule Eire 1996 max - Mar lastSun 1:00u 0 -", "Rule Eire 1996 max - Oct lastSun 1:00u -1:00 -",
 		"Rule US 1967 2006 - Oct lastSun 2:00 0 S", "Rule US 1967 1973 - Apr lastSun 2:00 1:00 D", "Rule US 1974 only - Jan 6 2:00 1:00 D", "Rule US 1975 only - Feb lastSun 2:00 1:00 D",
@@ -50,6 +51,10 @@ func TestRealClocks(t *testing.T) {
 		"Zone Lisbon 1:00 EU CE%sT 1996 Mar 31 1:00u", "0:00 EU WE%sT",
 		"Zone Istanbul 2:00 EU EE%sT 2011 Mar 27 1:00u", "2:00 - EET 2011 Mar 28 1:00u", "2:00 EU EE%sT 2014 Mar 30 1:00u", "2:00 - EET 2014 Mar 31 1:00u", "2:00 EU EE%sT 2015 Oct 25 1:00u", "2:00 1:00 EEST 2015 Nov 8 1:00u", "2:00 EU EE%sT 2016 Sep 7", "3:00 - +03",
 	)
+}
+
+func TestRealClocks(t *testing.T) {
+	r := realRelease(t)
 	isRealClock(t, r, "Paris", "Europe/Paris", "1996-01-01 00:00:00", "2025-01-01 00:00:00")
 	isRealClock(t, r, "Dublin", "Europe/Dublin", "1997-01-01 00:00:00", "2025-01-01 00:00:00")
 	isRealClock(t, r, "New_York", "America/New_York", "1967-05-01 00:00:00", "2025-01-01 00:00:00")

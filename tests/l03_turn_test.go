@@ -19,7 +19,7 @@ func aTable() impl.Table {
 	}}
 }
 
-// isRightTable asks the same of TableRight and of TurnAt.
+// isRightTable asks the same of all calls that take a Table.
 func isRightTable(t *testing.T, what string, table impl.Table, want bool) {
 	t.Helper()
 	if got := impl.TableRight(table); got != want {
@@ -33,6 +33,21 @@ func isRightTable(t *testing.T, what string, table impl.Table, want bool) {
 		if want && !slices.Contains(table.Turns, got) {
 			t.Errorf("%s: got the Turn %+v at %d, which the table has not", what, got, at)
 		}
+		isOfRightTable(t, fmt.Sprint(what, ", at ", at), table, at, want)
+	}
+}
+
+// isOfRightTable asks the clock's calls whether they take a Table.
+func isOfRightTable(t *testing.T, what string, table impl.Table, at int64, want bool) {
+	t.Helper()
+	for _, got := range []impl.NumOut{impl.WallOf(table, at), impl.Resolve(table, at, 1, 1)} {
+		if want != (got.Code != impl.ErrForm) || !want && got.N != 0 {
+			t.Errorf("%s: got %+v", what, got)
+		}
+	}
+	got := impl.InstantsOf(table, at)
+	if !want && len(got) > 0 {
+		t.Errorf("%s: got the instants %v", what, got)
 	}
 }
 
