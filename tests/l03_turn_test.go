@@ -35,6 +35,7 @@ func isRightTable(t *testing.T, what string, table impl.Table, want bool) {
 		}
 		isOfRightTable(t, fmt.Sprint(what, ", at ", at), table, at, want)
 	}
+	isDiffOfRightTable(t, what, table, want)
 }
 
 // isOfRightTable asks the clock's calls whether they take a Table.
@@ -48,6 +49,21 @@ func isOfRightTable(t *testing.T, what string, table impl.Table, at int64, want 
 	got := impl.InstantsOf(table, at)
 	if !want && len(got) > 0 {
 		t.Errorf("%s: got the instants %v", what, got)
+	}
+}
+
+// isDiffOfRightTable asks the calls that take two Tables, with one that has none of its Offsets.
+func isDiffOfRightTable(t *testing.T, what string, table impl.Table, want bool) {
+	t.Helper()
+	other := impl.Table{Turns: []impl.Turn{{At: impl.MinTime, Offset: -77777}}}
+	for _, pair := range [][2]impl.Table{{table, other}, {other, table}} {
+		if got := impl.Diff(pair[0], pair[1]); (len(got) == 1) != want {
+			t.Errorf("%s: got the Spans %v", what, got)
+		}
+		// The other clock shows each wall time once, and the Table's never at that instant.
+		if got := impl.Changed(pair[0], pair[1], 500000, 0, 0); got != want {
+			t.Errorf("%s: changed? got %v, want %v", what, got, want)
+		}
 	}
 }
 
